@@ -4,6 +4,7 @@ import (
 	"testing"
 
 	"compline/api"
+	"compline/queuetest"
 	"compline/tick"
 )
 
@@ -38,11 +39,7 @@ func TestHeapIsSound(t *testing.T) {
 		if e != api.OK {
 			t.Fatal(e)
 		}
-		dice := uint64(places)
-		roll := func(n int) int {
-			dice = dice*6364136223846793005 + 1442695040888963407
-			return int(dice>>33) % n
-		}
+		roll := queuetest.Dice(uint64(places))
 		for range 20000 {
 			x := api.Timer{At: uint64(roll(2 * places)), Seq: uint64(roll(3)), Place: roll(places)}
 			switch roll(8) {

@@ -28,19 +28,6 @@ func made(t *testing.T, places, bits int, base uint64, l ...api.Timer) *hashwhee
 	return q
 }
 
-// inOrder is the list as chapter 1 orders it, said anew: what is checked is not
-// asked.
-func inOrder(l []api.Timer) []api.Timer {
-	l = slices.Clone(l)
-	slices.SortFunc(l, func(a, b api.Timer) int {
-		if a.At < b.At || a.At == b.At && (a.Seq < b.Seq || a.Seq == b.Seq && a.Place < b.Place) {
-			return -1
-		}
-		return 1
-	})
-	return l
-}
-
 // Whatever there are of slots, and wherever the base began: what is told is what
 // all queues tell.
 func TestQueue(t *testing.T) {
@@ -140,7 +127,7 @@ func (b *book) due(now uint64) []api.Timer {
 	b.looked = len(into)
 	b.base = max(b.base, now)
 	isDue := func(x api.Timer) bool { return x.At <= now }
-	due := slices.DeleteFunc(inOrder(b.pend), func(x api.Timer) bool { return !isDue(x) })
+	due := slices.DeleteFunc(queuetest.InOrder(b.pend), func(x api.Timer) bool { return !isDue(x) })
 	b.pend = slices.DeleteFunc(b.pend, isDue)
 	return due
 }
@@ -148,7 +135,7 @@ func (b *book) due(now uint64) []api.Timer {
 // check holds q against the book.
 func (b *book) check(t *testing.T, q *hashwheel.Queue) {
 	t.Helper()
-	want := inOrder(b.pend)
+	want := queuetest.InOrder(b.pend)
 	if q.Looked() != b.looked || q.Base() != b.base {
 		t.Fatalf("of %v: looked into %d, base %d; want %d, %d", want, q.Looked(), q.Base(), b.looked, b.base)
 	}
@@ -167,7 +154,7 @@ func (b *book) check(t *testing.T, q *hashwheel.Queue) {
 // doDue does it with both, and holds the answers against each other.
 func (b *book) doDue(t *testing.T, q *hashwheel.Queue, now uint64) {
 	t.Helper()
-	was, base := inOrder(b.pend), b.base
+	was, base := queuetest.InOrder(b.pend), b.base
 	want := b.due(now)
 	if l := q.Due(now); !slices.Equal(l, want) || q.Looked() != b.looked || q.Base() != b.base {
 		t.Fatalf("of %v, %d slots, base %d, Due(%d): %v, looked into %d, base %d; want %v, %d, %d",
@@ -385,10 +372,7 @@ func TestLongWays(t *testing.T) {
 	for bits := 1; bits <= 6; bits++ {
 		slots := 4 << bits
 		for seed := range uint64(12) {
-			roll := func(n int) int {
-				seed = seed*6364136223846793005 + 1442695040888963407
-				return int(seed>>33) % n
-			}
+			roll := queuetest.Dice(seed)
 			base := []uint64{3, 1<<63 - 200, api.Never - uint64(40*slots)}[roll(3)]
 			b, q := newBook(bits, base), made(t, places, bits, base)
 			for range 600 {
@@ -437,11 +421,7 @@ func TestSizeAndBaseMakeNoDifference(t *testing.T) {
 			queues = append(queues, made(t, places, bits, base))
 		}
 	}
-	seed := uint64(5)
-	roll := func(n int) int {
-		seed = seed*6364136223846793005 + 1442695040888963407
-		return int(seed>>33) % n
-	}
+	roll := queuetest.Dice(5)
 	for range 3000 {
 		what, x := roll(6), tm(ats[roll(len(ats))]+uint64(roll(2)), uint64(roll(3)), roll(places))
 		if what == 5 && roll(3) > 0 {

@@ -5,6 +5,8 @@ import (
 	"testing"
 
 	"compline/api"
+	"compline/placed"
+	"compline/queuetest"
 )
 
 // sound tells whether each timer that pends is in the list that its tick asks
@@ -13,7 +15,7 @@ func sound(t *testing.T, q *Queue) {
 	t.Helper()
 	met := 0
 	for list := range q.size + 1 {
-		l := q.in(list)
+		l := placed.In(q.Timers, list)
 		met += len(l)
 		for _, x := range l {
 			want := int(x.At % uint64(q.size))
@@ -50,11 +52,7 @@ func TestWheelIsSound(t *testing.T) {
 			if e != api.OK {
 				t.Fatal(e)
 			}
-			dice := base + uint64(bits)
-			roll := func(n int) int {
-				dice = dice*6364136223846793005 + 1442695040888963407
-				return int(dice>>33) % n
-			}
+			roll := queuetest.Dice(base + uint64(bits))
 			for range 1500 {
 				x := api.Timer{At: q.base + uint64(roll(3*q.size)) - uint64(roll(3)), Seq: uint64(roll(3)), Place: roll(places)}
 				switch roll(8) {

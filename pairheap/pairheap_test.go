@@ -32,23 +32,10 @@ func made(t *testing.T, places int, l ...api.Timer) *pairheap.Queue {
 	return q
 }
 
-// inOrder is the list as chapter 1 orders it, said anew: what is checked is not
-// asked.
-func inOrder(l []api.Timer) []api.Timer {
-	l = slices.Clone(l)
-	slices.SortFunc(l, func(a, b api.Timer) int {
-		if a.At < b.At || a.At == b.At && (a.Seq < b.Seq || a.Seq == b.Seq && a.Place < b.Place) {
-			return -1
-		}
-		return 1
-	})
-	return l
-}
-
 // pend tells whether just those of l pend in q, whichever call is asked.
 func pend(t *testing.T, q *pairheap.Queue, places int, l []api.Timer) {
 	t.Helper()
-	want := inOrder(l)
+	want := queuetest.InOrder(l)
 	if got := q.All(); !slices.Equal(got, want) || q.Len() != len(want) {
 		t.Fatalf("All: %v, Len: %d; want %v", got, q.Len(), want)
 	}
@@ -69,7 +56,7 @@ func pend(t *testing.T, q *pairheap.Queue, places int, l []api.Timer) {
 // the tree is told, too.
 func drained(t *testing.T, q *pairheap.Queue, l []api.Timer) {
 	t.Helper()
-	for _, want := range inOrder(l) {
+	for _, want := range queuetest.InOrder(l) {
 		if got, ok := q.Min(); got != want || !ok {
 			t.Fatalf("Min: %v, %v; want %v", got, ok, want)
 		}
@@ -277,10 +264,7 @@ func TestMeldMost(t *testing.T) {
 func TestMeldLongWays(t *testing.T) {
 	const places = 24
 	for seed := range uint64(20) {
-		roll := func(n int) int {
-			seed = seed*6364136223846793005 + 1442695040888963407
-			return int(seed>>33) % n
-		}
+		roll := queuetest.Dice(seed)
 		queues := []*pairheap.Queue{made(t, places), made(t, places), made(t, places)}
 		lists := make([][]api.Timer, len(queues))
 		at := func(i, place int) int {
@@ -316,7 +300,7 @@ func TestMeldLongWays(t *testing.T) {
 			case 5:
 				now := uint64(roll(5))
 				isDue := func(x api.Timer) bool { return x.At <= now }
-				due := slices.DeleteFunc(inOrder(lists[i]), func(x api.Timer) bool { return !isDue(x) })
+				due := slices.DeleteFunc(queuetest.InOrder(lists[i]), func(x api.Timer) bool { return !isDue(x) })
 				if l := queues[i].Due(now); !slices.Equal(l, due) {
 					t.Fatalf("Due(%d): %v; want %v", now, l, due)
 				}

@@ -6,6 +6,7 @@ import (
 	"testing"
 
 	"compline/api"
+	"compline/queuetest"
 	"compline/tick"
 )
 
@@ -45,11 +46,7 @@ func TestTreeIsSound(t *testing.T) {
 	for _, places := range []int{1, 2, 3, 6, 7, 13, 40} {
 		q, _ := New(places)
 		o, _ := New(places)
-		dice := uint64(places)
-		roll := func(n int) int {
-			dice = dice*6364136223846793005 + 1442695040888963407
-			return int(dice>>33) % n
-		}
+		roll := queuetest.Dice(uint64(places))
 		for range 20000 {
 			x := api.Timer{At: uint64(roll(2 * places)), Seq: uint64(roll(3)), Place: roll(places)}
 			switch roll(9) {

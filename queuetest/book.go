@@ -31,10 +31,14 @@ type book struct {
 
 func (b *book) copied() *book { return &book{b.places, append([]api.Timer(nil), b.pend...)} }
 
-// inOrder are those that pend: each time the one that none is before.
-func (b *book) inOrder() []api.Timer {
+// inOrder are those that pend.
+func (b *book) inOrder() []api.Timer { return InOrder(b.pend) }
+
+// InOrder is the list as chapter 1 orders it: each time the one that none is
+// before.
+func InOrder(list []api.Timer) []api.Timer {
 	var l []api.Timer
-	rest := append([]api.Timer(nil), b.pend...)
+	rest := append([]api.Timer(nil), list...)
 	for len(rest) > 0 {
 		first := 0
 		for i := range rest {

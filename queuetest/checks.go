@@ -109,8 +109,8 @@ func checkAllWays(t T, fresh maker) {
 	further(4, 4, []uint64{4}, []uint64{8}, nil)
 }
 
-// dice are numbers in no order, the same ones each time.
-func dice(seed uint64) func(n int) int {
+// Dice are numbers in no order, the same ones each time.
+func Dice(seed uint64) func(n int) int {
 	return func(n int) int {
 		seed = seed*6364136223846793005 + 1442695040888963407
 		return int(seed>>33) % n
@@ -123,7 +123,7 @@ func checkLongWays(t T, fresh maker) {
 	for _, places := range []int{1, 5, 17, 60} {
 		for seed := range uint64(8) {
 			b, q := &book{places: places}, fresh.made(t, places)
-			roll := dice(seed)
+			roll := Dice(seed)
 			number := func() uint64 {
 				if seed%2 == 0 {
 					return far[roll(len(far))]

@@ -1,6 +1,6 @@
 // Package queuetest has the checks that a queue must pass, whatever it keeps its
-// timers in: the document says the same of the calls of all of them. Only tests
-// call it.
+// timers in: the document says the same of the calls of all of them. And it has
+// what a queue's own tests need: lists in order, and dice. Only tests call it.
 package queuetest
 
 import "compline/api"
