@@ -23,16 +23,105 @@ func before(a, b api.Timer) bool {
 	return a.Place < b.Place
 }
 
-// book are the timers that pend, as a plain list in no order.
-type book struct {
+// Book is a queue whose timers are a plain list in no order, and which does what
+// the chapters say of it in plain words: what any other queue tells is held against
+// what a book tells. As an engine does, it has Take.
+type Book struct {
 	places int
 	pend   []api.Timer
 }
 
-func (b *book) copied() *book { return &book{b.places, append([]api.Timer(nil), b.pend...)} }
+// NewBook is a book of so many places in which none pends.
+func NewBook(places int) *Book { return &Book{places: places} }
 
-// inOrder are those that pend.
-func (b *book) inOrder() []api.Timer { return InOrder(b.pend) }
+// Insert lets one pend.
+func (b *Book) Insert(t api.Timer) api.Errno {
+	if !b.isPlace(t.Place) {
+		return api.ErrArg
+	}
+	if b.index(t.Place) >= 0 {
+		return api.ErrTwice
+	}
+	b.pend = append(b.pend, t)
+	return api.OK
+}
+
+// Cancel takes one out.
+func (b *Book) Cancel(place int) (api.Timer, api.Errno) {
+	if !b.isPlace(place) {
+		return api.Timer{}, api.ErrArg
+	}
+	i := b.index(place)
+	if i < 0 {
+		return api.Timer{}, api.ErrNone
+	}
+	was := b.pend[i]
+	b.pend = slices.Delete(b.pend, i, i+1)
+	return was, api.OK
+}
+
+// Move sets one in another one's stead.
+func (b *Book) Move(t api.Timer) api.Errno {
+	if !b.isPlace(t.Place) {
+		return api.ErrArg
+	}
+	i := b.index(t.Place)
+	if i < 0 {
+		return api.ErrNone
+	}
+	b.pend[i] = t
+	return api.OK
+}
+
+// Get is the one at a place.
+func (b *Book) Get(place int) (api.Timer, bool) {
+	i := b.index(place)
+	if i < 0 {
+		return api.Timer{}, false
+	}
+	return b.pend[i], true
+}
+
+// Min is the first one.
+func (b *Book) Min() (api.Timer, bool) {
+	if len(b.pend) == 0 {
+		return api.Timer{}, false
+	}
+	return b.All()[0], true
+}
+
+// Due takes out those that are due.
+func (b *Book) Due(now uint64) []api.Timer {
+	return b.split(func(_ int, x api.Timer) bool { return x.At <= now })
+}
+
+// Take takes out the first ones.
+func (b *Book) Take(n int) []api.Timer {
+	return b.split(func(i int, _ api.Timer) bool { return i < n })
+}
+
+// Len is how many pend.
+func (b *Book) Len() int { return len(b.pend) }
+
+// All are those that pend.
+func (b *Book) All() []api.Timer { return InOrder(b.pend) }
+
+// split takes out those that are meant, by how many there are before each, and by
+// what it is.
+func (b *Book) split(meant func(before int, t api.Timer) bool) []api.Timer {
+	var out, rest []api.Timer
+	for i, x := range b.All() {
+		if meant(i, x) {
+			out = append(out, x)
+		} else {
+			rest = append(rest, x)
+		}
+	}
+	b.pend = rest
+	return out
+}
+
+func (b *Book) copied() *Book { return &Book{b.places, append([]api.Timer(nil), b.pend...)} }
 
 // InOrder is the list as chapter 1 orders it: each time the one that none is
 // before.
@@ -53,20 +142,20 @@ func InOrder(list []api.Timer) []api.Timer {
 }
 
 // text tells two books apart.
-func (b *book) text() string {
+func (b *Book) text() string {
 	var w strings.Builder
-	for _, x := range b.inOrder() {
+	for _, x := range b.All() {
 		w.WriteString(strconv.FormatUint(x.At, 10) + "," + strconv.FormatUint(x.Seq, 10) + "," + strconv.Itoa(x.Place) + " ")
 	}
 	return w.String()
 }
 
 // index is where in the book the one at a place stands, -1 if none pends there.
-func (b *book) index(place int) int {
+func (b *Book) index(place int) int {
 	return slices.IndexFunc(b.pend, func(x api.Timer) bool { return x.Place == place })
 }
 
-func (b *book) isPlace(i int) bool { return 0 <= i && i < b.places }
+func (b *Book) isPlace(i int) bool { return 0 <= i && i < b.places }
 
 // The calls that change something.
 const (
@@ -91,70 +180,6 @@ type answer struct {
 
 func (a answer) same(b answer) bool { return a.e == b.e && slices.Equal(a.l, b.l) }
 
-// told is what the chapter's sentences say of a call, in their order, and what
-// comes of it in the book.
-func (b *book) told(x call) answer {
-	switch x.what {
-	case toInsert:
-		return b.insert(x.t)
-	case toCancel:
-		return b.cancel(x.t.Place)
-	case toMove:
-		return b.move(x.t)
-	}
-	return b.due(x.t.At)
-}
-
-func (b *book) insert(t api.Timer) answer {
-	if !b.isPlace(t.Place) {
-		return answer{e: api.ErrArg}
-	}
-	if b.index(t.Place) >= 0 {
-		return answer{e: api.ErrTwice}
-	}
-	b.pend = append(b.pend, t)
-	return answer{}
-}
-
-func (b *book) cancel(place int) answer {
-	if !b.isPlace(place) {
-		return answer{[]api.Timer{{}}, api.ErrArg}
-	}
-	i := b.index(place)
-	if i < 0 {
-		return answer{[]api.Timer{{}}, api.ErrNone}
-	}
-	was := b.pend[i]
-	b.pend = slices.Delete(b.pend, i, i+1)
-	return answer{l: []api.Timer{was}}
-}
-
-func (b *book) move(t api.Timer) answer {
-	if !b.isPlace(t.Place) {
-		return answer{e: api.ErrArg}
-	}
-	i := b.index(t.Place)
-	if i < 0 {
-		return answer{e: api.ErrNone}
-	}
-	b.pend[i] = t
-	return answer{}
-}
-
-func (b *book) due(now uint64) answer {
-	all := b.inOrder()
-	b.pend = nil
-	var due []api.Timer
-	for _, x := range all {
-		if x.At <= now {
-			due = append(due, x)
-		} else {
-			b.pend = append(b.pend, x)
-		}
-	}
-	return answer{l: due}
-}
-
 // asked is what a queue answers to a call.
 func asked(q Queue, x call) answer {
 	switch x.what {
@@ -170,61 +195,54 @@ func asked(q Queue, x call) answer {
 }
 
 // do does it with both, and holds the answers against each other.
-func (b *book) do(t T, q Queue, x call) answer {
+func (b *Book) do(t T, q Queue, x call) answer {
 	t.Helper()
 	was := b.copied()
-	want := b.told(x)
+	want := asked(b, x)
 	if got := asked(q, x); !got.same(want) {
 		t.Fatalf("of %s, %v: %v; want %v", was.text(), x, got, want)
 	}
 	return want
 }
 
-// check holds all that q tells against the book, of all places, and of some
-// that there are not.
-func (b *book) check(t T, q Queue) {
+// Check holds all that q tells against the book, of all places, and of some that
+// there are not.
+func (b *Book) Check(t T, q Queue) {
 	t.Helper()
-	all := b.inOrder()
+	all := b.All()
 	if got := q.All(); !slices.Equal(got, all) {
 		t.Fatalf("All: %v; want %v", got, all)
 	}
 	if n := q.Len(); n != len(all) {
 		t.Fatalf("of %s, Len: %d", b.text(), n)
 	}
-	var first api.Timer
-	if len(all) > 0 {
-		first = all[0]
-	}
-	if got, ok := q.Min(); got != first || ok != (len(all) > 0) {
+	first, some := b.Min()
+	if got, ok := q.Min(); got != first || ok != some {
 		t.Fatalf("of %s, Min: %v, %v", b.text(), got, ok)
 	}
 	for _, place := range farAndNear(b.places) {
-		var want api.Timer
-		i := b.index(place)
-		if i >= 0 {
-			want = b.pend[i]
-		}
-		if got, ok := q.Get(place); got != want || ok != (i >= 0) {
+		want, pends := b.Get(place)
+		if got, ok := q.Get(place); got != want || ok != pends {
 			t.Fatalf("of %s, Get(%d): %v, %v; want %v", b.text(), place, got, ok, want)
 		}
 	}
 }
 
 // drain takes out the first one, again and again, till none is left.
-func (b *book) drain(t T, q Queue) {
+func (b *Book) drain(t T, q Queue) {
 	t.Helper()
-	for _, want := range b.inOrder() {
+	for _, want := range b.All() {
 		if got, ok := q.Min(); got != want || !ok {
 			t.Fatalf("of %s, Min: %v, %v", b.text(), got, ok)
 		}
 		b.do(t, q, call{toCancel, want})
 	}
-	b.check(t, q)
+	b.Check(t, q)
 }
 
 // calls are all calls of few numbers, with all places from one below what there
 // is to two beyond it.
-func (b *book) calls(ats, seqs []uint64) []call {
+func (b *Book) calls(ats, seqs []uint64) []call {
 	var l []call
 	for place := -1; place < b.places+2; place++ {
 		l = append(l, call{toCancel, tm(0, 0, place)})

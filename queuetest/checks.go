@@ -44,7 +44,7 @@ func checkNew(t T, fresh maker) {
 			t.Errorf("New(%d): %v, %v; want %v", places, q, e, want)
 		}
 		if q != nil {
-			(&book{places: places}).check(t, q)
+			NewBook(places).Check(t, q)
 		}
 	}
 }
@@ -76,7 +76,7 @@ func checkAllStates(t T, fresh maker) {
 			for _, y := range b.calls(x.ats, x.seqs) {
 				b, q := fresh.replayed(t, x.places, way)
 				got := b.do(t, q, y)
-				b.check(t, q)
+				b.Check(t, q)
 				if got.e == api.OK {
 					ways = append(ways, append(slices.Clone(way), y))
 				}
@@ -94,12 +94,12 @@ func checkAllWays(t T, fresh maker) {
 	var further func(places, calls int, ats, seqs []uint64, way []call)
 	further = func(places, calls int, ats, seqs []uint64, way []call) {
 		b, q := fresh.replayed(t, places, way)
-		b.check(t, q)
+		b.Check(t, q)
 		if calls == 0 {
 			return
 		}
 		for _, x := range b.calls(ats, seqs) {
-			if b.copied().told(x).e == api.OK {
+			if asked(b.copied(), x).e == api.OK {
 				further(places, calls-1, ats, seqs, append(slices.Clone(way), x))
 			}
 		}
@@ -122,7 +122,7 @@ func checkLongWays(t T, fresh maker) {
 	far := []uint64{0, 1, 2, 1<<32 - 1, 1 << 32, 1<<63 - 1, 1 << 63, 1<<63 + 1, api.Never - 1, api.Never}
 	for _, places := range []int{1, 5, 17, 60} {
 		for seed := range uint64(8) {
-			b, q := &book{places: places}, fresh.made(t, places)
+			b, q := NewBook(places), fresh.made(t, places)
 			roll := Dice(seed)
 			number := func() uint64 {
 				if seed%2 == 0 {
@@ -138,7 +138,7 @@ func checkLongWays(t T, fresh maker) {
 					x.t.At = uint64(roll(6))
 				}
 				b.do(t, q, x)
-				b.check(t, q)
+				b.Check(t, q)
 			}
 		}
 	}
@@ -153,7 +153,7 @@ func checkFirstError(t T, fresh maker) {
 		if e := asked(q, x).e; e != want {
 			t.Errorf("%v: %v; want %v", x, e, want)
 		}
-		b.check(t, q)
+		b.Check(t, q)
 	}
 	for _, place := range []int{math.MinInt, -1 << 32, -1, 4, 5, 6, 1024, 1 << 32, 1<<32 + 1, 1<<32 + 2, math.MaxInt} {
 		for _, what := range []int{toInsert, toCancel, toMove} {
@@ -175,7 +175,7 @@ func checkFirstError(t T, fresh maker) {
 
 // A queue without places refuses each one, and has nothing to tell.
 func checkNoPlaces(t T, fresh maker) {
-	b, q := &book{}, fresh.made(t, 0)
+	b, q := NewBook(0), fresh.made(t, 0)
 	for _, place := range farAndNear(0) {
 		for _, what := range []int{toInsert, toCancel, toMove} {
 			if got := b.do(t, q, call{what, tm(1, 1, place)}); got.e != api.ErrArg {
@@ -184,7 +184,7 @@ func checkNoPlaces(t T, fresh maker) {
 		}
 	}
 	b.do(t, q, call{toDue, tm(api.Never, 0, 0)})
-	b.check(t, q)
+	b.Check(t, q)
 }
 
 // What is due comes in order; behind it none is due, and what is not due pends
@@ -199,7 +199,7 @@ func checkDue(t T, fresh maker) {
 		for _, now := range []uint64{at - 1, at, at + 1} {
 			b, q := fresh.replayed(t, len(way), way)
 			due := b.do(t, q, call{toDue, tm(now, 0, 0)}).l
-			b.check(t, q)
+			b.Check(t, q)
 			for i := range due {
 				if due[i].At > now || i > 0 && !before(due[i-1], due[i]) {
 					t.Errorf("Due(%d): %v", now, due)
@@ -231,7 +231,7 @@ func checkDueLeavesPlaces(t T, fresh maker) {
 		{toInsert, tm(0, 0, 2)},
 	} {
 		b.do(t, q, x)
-		b.check(t, q)
+		b.Check(t, q)
 	}
 }
 
@@ -251,8 +251,8 @@ func checkMoved(t T, fresh maker) {
 				if !slices.Equal(one.All(), other.All()) {
 					t.Errorf("%v: %v; %v", x, one.All(), other.All())
 				}
-				b.check(t, one)
-				b.check(t, other)
+				b.Check(t, one)
+				b.Check(t, other)
 			}
 		}
 	}
@@ -287,7 +287,7 @@ func checkEachOrder(t T, fresh maker) {
 	for done := range orders(l) {
 		way := put(done...)
 		b, q := fresh.replayed(t, len(l), way)
-		b.check(t, q)
+		b.Check(t, q)
 		b.drain(t, q)
 		for place := range l {
 			changes := []call{{toCancel, tm(0, 0, place)}}
@@ -311,22 +311,22 @@ func checkMost(t T, fresh maker) {
 		func(i int) uint64 { return uint64(i * 389 % most) },
 		func(i int) uint64 { return 7 },
 	} {
-		b, q := &book{places: most}, fresh.made(t, most)
+		b, q := NewBook(most), fresh.made(t, most)
 		for i := range most {
 			b.do(t, q, call{toInsert, tm(at(i), uint64(i%3), i)})
 		}
-		b.check(t, q)
+		b.Check(t, q)
 		for i := 0; i < most; i += 2 {
 			b.do(t, q, call{toMove, tm(at(i)/2, uint64(i%5), i)})
 		}
 		for i := 0; i < most; i += 3 {
 			b.do(t, q, call{toCancel, tm(0, 0, i)})
 		}
-		b.check(t, q)
+		b.Check(t, q)
 		b.do(t, q, call{toDue, tm(most/2, 0, 0)})
-		b.check(t, q)
+		b.Check(t, q)
 		b.do(t, q, call{toDue, tm(most, 0, 0)})
-		b.check(t, q)
+		b.Check(t, q)
 		if q.Len() != 0 {
 			t.Errorf("Len: %d", q.Len())
 		}
@@ -345,15 +345,15 @@ func spoiled(l []api.Timer) {
 // with what that tells another time.
 func checkNothingShared(t T, fresh maker) {
 	b, q := fresh.replayed(t, 6, put(tm(5, 1, 3), tm(2, 2, 0), tm(7, 3, 5), tm(2, 4, 4)))
-	all := b.inOrder()
+	all := b.All()
 	one, other := q.All(), q.All()
 	spoiled(one)
 	if !slices.Equal(other, all) {
 		t.Errorf("All: %v", other)
 	}
-	b.check(t, q)
+	b.Check(t, q)
 	due := q.Due(2)
-	want := b.told(call{toDue, tm(2, 0, 0)}).l
+	want := asked(b, call{toDue, tm(2, 0, 0)}).l
 	for _, x := range []call{{toInsert, tm(1, 1, 0)}, {toMove, tm(9, 9, 3)}, {toCancel, tm(0, 0, 5)}, {toInsert, tm(3, 3, 4)}, {toDue, tm(3, 0, 0)}} {
 		b.do(t, q, x)
 		if !slices.Equal(due, want) || !slices.Equal(other, all) {
@@ -362,7 +362,7 @@ func checkNothingShared(t T, fresh maker) {
 	}
 	spoiled(due)
 	spoiled(other)
-	b.check(t, q)
+	b.Check(t, q)
 	b.do(t, q, call{toDue, tm(api.Never, 0, 0)})
 	// A list without timers may still have memory behind it.
 	none := [][]api.Timer{q.Due(api.Never), q.All()}
@@ -371,7 +371,7 @@ func checkNothingShared(t T, fresh maker) {
 	for _, l := range none {
 		spoiled(l)
 	}
-	b.check(t, q)
+	b.Check(t, q)
 }
 
 // Two queues go their own ways.
@@ -381,7 +381,7 @@ func checkQueuesApart(t T, fresh maker) {
 	b, other := fresh.replayed(t, 4, way)
 	for _, x := range []call{{toMove, tm(6, 0, 2)}, {toInsert, tm(1, 1, 1)}, {toCancel, tm(0, 0, 0)}, {toDue, tm(9, 0, 0)}} {
 		a.do(t, one, x)
-		a.check(t, one)
-		b.check(t, other)
+		a.Check(t, one)
+		b.Check(t, other)
 	}
 }

@@ -86,9 +86,9 @@ func (fresh maker) made(t T, places int) Queue {
 }
 
 // replayed is a queue, and a book, with which all of way was done.
-func (fresh maker) replayed(t T, places int, way []call) (*book, Queue) {
+func (fresh maker) replayed(t T, places int, way []call) (*Book, Queue) {
 	t.Helper()
-	b, q := &book{places: places}, fresh.made(t, places)
+	b, q := NewBook(places), fresh.made(t, places)
 	for _, x := range way {
 		b.do(t, q, x)
 	}
